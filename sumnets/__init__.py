@@ -1,0 +1,1 @@
+"""Nets of joinings, by any told joining, over windows and parts."""

@@ -1,0 +1,90 @@
+"""What several test files hand in: wrong things of every kind, deep things, joinings with things of theirs."""
+
+import itertools
+
+BIG = 10 ** 1300 - 1
+NO_NUMBERS = (None, True, False, "", "0", "12", (), (0,), (1, 2), [], [0], {}, {0: 1}, ((0,),))
+NO_TUPLES = (None, True, False, 0, 1, -1, BIG, "", "rows", [], [0], [[0]], {}, {0: 1}, {"rows": 0})
+
+
+def deep_tuple(depth, core=0):
+    for step in range(depth):
+        core = (core,)
+    return core
+
+
+def deep_list(depth, core=0):
+    for step in range(depth):
+        core = [core]
+    return core
+
+
+def deep_dict(depth, core=0):
+    for step in range(depth):
+        core = {"rows": core}
+    return core
+
+
+def deep_turned(depth):
+    """A joining within "turned", so that all of it is depth deep."""
+    core = ("rows",)
+    for step in range(depth - 1):
+        core = ("turned", core)
+    return core
+
+
+DEEP = (deep_tuple(160), deep_list(160), deep_dict(160), deep_turned(160), deep_tuple(159, True))
+
+# Tables that mind no brackets: numbers added around a clock, the left one, the greater one, the multiplied ones.
+CLOCK = tuple(tuple((x + y) % 6 for y in range(6)) for x in range(6))
+LEFT = ((0, 0), (1, 1))
+GREATER = tuple(tuple(max(x, y) for y in range(3)) for x in range(3))
+TIMES = tuple(tuple((x * y) % 4 for y in range(4)) for x in range(4))
+# The turns of a triangle: the order of two matters, brackets don't.
+TURNS = list(itertools.permutations(range(3)))
+TRIANGLE = tuple(
+    tuple(TURNS.index(tuple(TURNS[y][TURNS[x][k]] for k in range(3))) for y in range(6)) for x in range(6))
+ONE_NUMBER = ((0,),)
+
+# A table that minds brackets: taking away, around a clock of three.
+MINUS = tuple(tuple((x - y) % 3 for y in range(3)) for x in range(3))
+# Another one, which first clashes elsewhere.
+NOT_BOTH = ((1, 1), (1, 0))
+
+# Joinings that mind no brackets, with some things of each.
+JOININGS = [
+    (("rows",), [(), (1,), (2, -3), (4, 5, 6)]),
+    (("plus",), [0, 1, -7, BIG]),
+    (("least",), [0, 1, -7, BIG]),
+    (("greatest",), [0, 1, -7, -BIG]),
+    (("first",), [3, 1, 2]),
+    (("last",), [3, 1, 2]),
+    (("lines",), [(1, 0), (2, 3), (-1, 4), (0, 5)]),
+    (("table", CLOCK), [0, 1, 4, 5]),
+    (("table", LEFT), [0, 1]),
+    (("table", GREATER), [0, 1, 2]),
+    (("table", TIMES), [0, 1, 2, 3]),
+    (("table", TRIANGLE), [0, 1, 2, 3, 4, 5]),
+    (("table", ONE_NUMBER), [0]),
+    (("turned", ("rows",)), [(), (1,), (2, 3)]),
+    (("turned", ("lines",)), [(1, 0), (2, 3), (-1, 4)]),
+    (("turned", ("table", TRIANGLE)), [1, 2, 3, 4]),
+    (("both", ("rows",), ("lines",)), [((1,), (2, 3)), ((), (0, 1)), ((2, 3), (-1, 1))]),
+    (("both", ("plus",), ("table", LEFT)), [(1, 0), (2, 1), (3, 0)]),
+    (("marked", ("rows",)), [(0, (1,)), (1, (2,)), (0, ()), (1, ())]),
+    (("marked", ("lines",)), [(0, (2, 3)), (1, (3, 1)), (0, (5, -1))]),
+    (("marked", ("turned", ("rows",))), [(0, (1,)), (1, (2,)), (0, (3,))]),
+    (("turned", ("marked", ("rows",))), [(0, (1,)), (1, (2,)), (0, (3,))]),
+    (("marked", ("marked", ("rows",))), [(0, (0, (1,))), (0, (1, (2,))), (1, (0, (3,))), (1, (1, (4,)))]),
+    (("both", ("turned", ("marked", ("rows",))), ("marked", ("both", ("plus",), ("last",)))),
+     [((0, (1,)), (1, (2, 3))), ((1, (2,)), (0, (4, 5))), ((0, (3,)), (0, (6, 7)))]),
+]
+
+
+def error_of(call, *arguments):
+    """The error that a call raises, or None."""
+    try:
+        call(*arguments)
+    except Exception as error:
+        return error
+    return None
