@@ -88,3 +88,87 @@ def error_of(call, *arguments):
     except Exception as error:
         return error
     return None
+
+
+def one_by_one_net(width):
+    """A net that tells all beginnings, each of the one before and of the next thing."""
+    knots = [(0, 1)] if width > 1 else []
+    for place in range(2, width):
+        knots.append((width + place - 2, place))
+    return (width, tuple(knots), (0,) + tuple(range(width, width + len(knots))))
+
+
+def stepped_net(width):
+    """A net that tells all beginnings with steps of 1, 2, 4 and so on."""
+    knots = []
+    values = list(range(width))
+    step = 1
+    while step < width:
+        before = list(values)
+        for place in range(step, width):
+            values[place] = width + len(knots)
+            knots.append((before[place - step], before[place]))
+        step *= 2
+    return (width, tuple(knots), tuple(values))
+
+
+def doubling_chain(count):
+    """A net that isn't right: each knot is of the one before it twice."""
+    return (1, tuple((number, number) for number in range(count)), (count,))
+
+
+def random_net(dice, width, count):
+    """A net that is most likely not right."""
+    knots = tuple((dice.randrange(number), dice.randrange(number)) for number in range(width, width + count))
+    ends = tuple(dice.randrange(width + count) for end in range(dice.randrange(1, 9)))
+    return (width, knots, ends)
+
+
+def random_right_net(dice, width, count):
+    """A right net, some of its knots needless, with the spans of its knots and of its ends."""
+    spans = [(place, place) for place in range(width)]
+    knots = []
+    for step in range(count if width > 1 else 0):
+        pairs = [
+            (left, right) for left in range(len(spans)) for right in range(len(spans))
+            if spans[left][1] + 1 == spans[right][0]]
+        left, right = dice.choice(pairs)
+        knots.append((left, right))
+        spans.append((spans[left][0], spans[right][1]))
+    ends = tuple(dice.randrange(len(spans)) for end in range(dice.randrange(1, 9)))
+    return (width, tuple(knots), ends), tuple(spans[width:]), tuple(spans[end] for end in ends)
+
+
+WRONG_NETS = NO_TUPLES + DEEP + (
+    (), (1,), (1, ()), (1, (), (0,), ()), [1, (), (0,)], ((1, (), (0,)),), "net", {1: ()},
+    # The width.
+    (0, (), (0,)), (-1, (), (0,)), (65, (), (0,)), (BIG, (), (0,)), (-BIG, (), (0,)), (True, (), (0,)),
+    (False, (), (0,)), (None, (), (0,)), ("1", (), (0,)), ((1,), (), (0,)), ([1], (), (0,)), ({}, (), (0,)),
+    # The knots.
+    (2, None, (0,)), (2, 0, (0,)), (2, "", (0,)), (2, [], (0,)), (2, [(0, 1)], (0,)), (2, {}, (0,)), (2, True, (0,)),
+    (2, (0, 1), (0,)), (2, ([0, 1],), (0,)), (2, ((0,),), (0,)), (2, ((0, 1, 1),), (0,)), (2, ((),), (0,)),
+    (2, ("01",), (0,)), (2, (None,), (0,)), (2, ({0: 1, 1: 0},), (0,)), (2, ((0, True),), (0,)),
+    (2, ((False, 1),), (0,)), (2, ((0, None),), (0,)), (2, (("0", 1),), (0,)), (2, ((0, (1,)),), (0,)),
+    (2, ((0, [1]),), (0,)), (2, ((0, 2),), (0,)), (2, ((2, 0),), (0,)), (2, ((0, -1),), (0,)), (2, ((-1, 0),), (0,)),
+    (2, ((0, BIG),), (0,)), (2, ((0, 3), (0, 1)), (0,)), (2, ((0, 1), (0, 3)), (0,)), (2, ((0, 1), (3, 0)), (0,)),
+    (2, ((0, 1), None), (0,)), (2, ((0, 1), (0, 1), (0, 5)), (0,)), (2, ((0, 1),) * 1001, (0,)),
+    (2, (deep_tuple(158),), (0,)), (2, ((0, deep_tuple(157)),), (0,)), (2, deep_list(159), (0,)),
+    # The ends.
+    (2, (), ()), (2, (), None), (2, (), 0), (2, (), [0]), (2, (), "0"), (2, (), {0: 0}), (2, (), (True,)),
+    (2, (), (0, False)), (2, (), (None,)), (2, (), ("0",)), (2, (), ((0,),)), (2, (), ([0],)), (2, (), (2,)),
+    (2, (), (-1,)), (2, (), (BIG,)), (2, (), (0, 1, 2)), (2, ((0, 1),), (0, 3)), (2, ((0, 1),), (-1, 0)),
+    (2, (), (0,) * 401), (2, (), deep_tuple(159)), (2, (), deep_list(159)), (2, (), True),
+)
+# Each with the number of the first knot whose two don't lie side by side.
+NETS_NOT_BESIDE = [
+    ((1, ((0, 0),), (0,)), 1),
+    ((2, ((1, 0),), (2,)), 2),
+    ((2, ((0, 0),), (0,)), 2),
+    ((3, ((0, 2),), (3,)), 3),
+    ((3, ((0, 1), (1, 2), (3, 4)), (5,)), 5),
+    ((3, ((0, 1), (3, 2), (2, 3), (0, 0)), (4,)), 5),
+    ((4, ((0, 1), (2, 3), (5, 4)), (6,)), 6),
+    ((4, ((0, 1), (2, 3), (4, 3), (4, 5)), (7,)), 6),
+    ((64, ((0, 63),), (64,)), 64),
+    (doubling_chain(1000), 1),
+]

@@ -177,8 +177,8 @@ class Things(unittest.TestCase):
         joining = ("marked", ("plus",))
         self.assertEqual([mark for mark in range(-2, 5) if is_thing(joining, (mark, 7))], [0, 1])
         for wrong in NO_TUPLES + DEEP + (
-                (), (0,), (0, 1, 2), [0, 1], (True, 1), (False, 1), (0, True), (None, 1), ("0", 1), ((0,), 1), (1, (1,)),
-                (BIG, 1), (1, None), (1, "7")):
+                (), (0,), (0, 1, 2), [0, 1], (True, 1), (False, 1), (0, True), (None, 1), ("0", 1), ((0,), 1),
+                (1, (1,)), (BIG, 1), (1, None), (1, "7")):
             self.assertIs(is_thing(joining, wrong), False)
 
     def test_four_deep(self):

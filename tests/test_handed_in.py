@@ -1,0 +1,65 @@
+"""[8] and [2] of all functions together: what is handed in isn't changed, the same call tells the same each time."""
+
+import copy
+import itertools
+import unittest
+
+from sumnets.errors import NetError
+from sumnets.joinings import is_thing, joined, look_at_joining
+from sumnets.levels import depth_of, least_depth, levels_hold, levels_of, longest_way, way_holds
+from sumnets.nets import look_at_net
+from sumnets.rows import beginnings_told, row_joined, window_told
+from sumnets.spans import spans_hold, spans_of, tells, tells_beginnings
+from sumnets.tables import clash_holds, clash_of
+from sumnets.telling import all_told, told
+from tests.samples import BIG, MINUS, deep_dict, deep_list, deep_tuple, error_of
+
+CHECKERS = {clash_holds: 2, spans_hold: 2, tells: 2, tells_beginnings: 1, levels_hold: 2, way_holds: 2}
+REFUSING = {
+    look_at_joining: 1, is_thing: 2, joined: 3, clash_of: 1, row_joined: 2, beginnings_told: 2, window_told: 3,
+    look_at_net: 1, spans_of: 1, told: 3, all_told: 3, levels_of: 1, depth_of: 1, longest_way: 1, least_depth: 1,
+}
+# Right things of each kind, and wrong ones that could be changed by whoever gets them.
+HANDED = [
+    ("plus",), ("table", MINUS), (1, 2), (0, 1), (2, ((0, 1),), (0, 2)), 1, BIG, True, None, "rows", [], ["plus"],
+    {"rows": [1]}, ([1], {2: [3]}), [2, [[0, 1]], [0, 2]], (2, [(0, 1)], [0, 2]), deep_list(160), deep_tuple(160),
+    deep_dict(160), (),
+]
+
+
+def outcome(call, arguments):
+    """What a call tells, or the class of its error."""
+    error = error_of(call, *arguments)
+    return (type(error), None) if error else (None, call(*arguments))
+
+
+class HandedIn(unittest.TestCase):
+    def calls(self, counts):
+        for call, count in counts.items():
+            for arguments in itertools.product(HANDED, repeat=count):
+                yield call, arguments
+
+    def test_nothing_is_changed(self):
+        before = copy.deepcopy(HANDED)
+        for call, arguments in self.calls({**CHECKERS, **REFUSING}):
+            outcome(call, arguments)
+        self.assertEqual(HANDED, before)
+
+    def test_the_same_each_time(self):
+        for call, arguments in self.calls({**CHECKERS, **REFUSING}):
+            self.assertEqual(outcome(call, arguments), outcome(call, arguments))
+
+    def test_checkers_refuse_nothing(self):
+        for call, arguments in self.calls(CHECKERS):
+            self.assertIn(call(*arguments), (True, False))
+            self.assertIsInstance(call(*arguments), bool)
+
+    def test_the_others_refuse_by_their_own_errors_alone(self):
+        for call, arguments in self.calls(REFUSING):
+            error = error_of(call, *arguments)
+            if error is not None:
+                self.assertIs(type(error).__base__, NetError)
+
+
+if __name__ == "__main__":
+    unittest.main()
