@@ -172,3 +172,113 @@ NETS_NOT_BESIDE = [
     ((64, ((0, 63),), (64,)), 64),
     (doubling_chain(1000), 1),
 ]
+
+T = ("steps", 2)
+ONE = ("steps", 1)
+
+
+def deep_over(depth, core=T):
+    """A paper of width 2, so deep, each one the over of the next one."""
+    for step in range(depth - 1):
+        core = ("blocks", core, (ONE, ONE))
+    return core
+
+
+def deep_blocks(depth, core=T):
+    """A paper so deep, each one the first block of the next one."""
+    for step in range(depth - 1):
+        core = ("blocks", T, (core, ONE))
+    return core
+
+
+def heavy_behind(width):
+    """A paper of width * (width - 1) / 2 knots, each one the last block of the next one."""
+    paper = ONE
+    for step in range(width - 1):
+        paper = ("blocks", T, (ONE, paper))
+    return paper
+
+
+# Of 990, 1000 and 1001 knots; 1001 and more are too many.
+KNOTS_990 = heavy_behind(45)
+KNOTS_1000 = ("blocks", T, (heavy_behind(5), heavy_behind(44)))
+KNOTS_1001 = ("blocks", T, (("blocks", T, (heavy_behind(5), ONE)), heavy_behind(44)))
+
+
+def random_paper(dice, width, room):
+    """A paper of this width, at most room deep."""
+    if width < 2 or room < 2 or dice.random() < 0.3:
+        return ("steps", width)
+    count = dice.randrange(2, width + 1)
+    cuts = [0] + sorted(dice.sample(range(1, width), count - 1)) + [width]
+    blocks = tuple(random_paper(dice, behind - first, room - 1) for first, behind in zip(cuts, cuts[1:]))
+    return ("blocks", random_paper(dice, count, room - 1), blocks)
+
+
+# Papers with what they build, by hand.
+BUILT = [
+    (ONE, (1, (), (0,))),
+    (T, (2, ((0, 1),), (0, 2))),
+    (("steps", 3), (3, ((0, 1), (1, 2), (0, 4)), (0, 3, 5))),
+    (("steps", 4), (4, ((0, 1), (1, 2), (2, 3), (0, 5), (4, 6)), (0, 4, 7, 8))),
+    (("blocks", T, (ONE, ONE)), (2, ((0, 1),), (0, 2))),
+    (("blocks", T, (T, T)), (4, ((0, 1), (2, 3), (4, 5), (4, 2)), (0, 4, 7, 6))),
+    (("blocks", T, (ONE, ("steps", 3))), (4, ((1, 2), (2, 3), (1, 5), (0, 6), (0, 1), (0, 4)), (0, 8, 9, 7))),
+    (("blocks", ("steps", 3), (T, T, T)),
+     (6, ((0, 1), (2, 3), (4, 5), (6, 7), (7, 8), (6, 10), (6, 2), (9, 4)), (0, 6, 12, 9, 13, 11))),
+    (("blocks", ("blocks", T, (T, ONE)), (T, ONE, T)),
+     (5, ((0, 1), (3, 4), (5, 2), (7, 6), (7, 3)), (0, 5, 7, 9, 8))),
+    (("blocks", T, (T, ("blocks", T, (T, ONE)))),
+     (5, ((0, 1), (2, 3), (6, 4), (5, 7), (5, 2), (5, 6)), (0, 5, 9, 10, 8))),
+]
+PAPERS = [paper for paper, net in BUILT] + [
+    ("steps", 5), ("steps", 33), ("steps", 63), ("steps", 64), ("blocks", ("steps", 64), (ONE,) * 64),
+    ("blocks", ("steps", 32), (T,) * 32), ("blocks", T, (("steps", 32), ("steps", 32))),
+    ("blocks", T, (("steps", 63), ONE)), ("blocks", T, (ONE, ("steps", 63))), deep_over(69), deep_over(70),
+    deep_blocks(63), deep_over(8, deep_over(63)), heavy_behind(6), KNOTS_990, KNOTS_1000,
+]
+
+# What is no paper, and so makes none of what it stands in.
+WRONG_PARTS = NO_TUPLES + DEEP + (
+    (), ("steps",), ("steps", 2, 2), ("step", 2), ("Steps", 2), ("blocks", 2), (2, "steps"), ["steps", 2], ("steps", [2]),
+    ("steps", 0), ("steps", -1), ("steps", 65), ("steps", BIG), ("steps", -BIG), ("steps", True), ("steps", False),
+    ("steps", None), ("steps", "2"), ("steps", (2,)), ("steps", {}), (("steps",), 2), (None, 2), (True, 2), "steps",
+    {"steps": 2}, (("steps", 2),), ("steps", deep_tuple(100)), (deep_list(100), 2),
+)
+WRONG_PAPERS = WRONG_PARTS + (
+    ("blocks",), ("blocks", T), ("blocks", T, (T, T), ()), ["blocks", T, (T, T)], ("block", T, (T, T)),
+    ("steps", T, (T, T)), (None, T, (T, T)), (("blocks",), T, (T, T)), (T, "blocks", (T, T)), ("blocks", (T, T), T),
+    # The blocks.
+    ("blocks", T, [T, T]), ("blocks", T, {0: T, 1: T}), ("blocks", T, None), ("blocks", T, "TT"), ("blocks", T, 2),
+    ("blocks", T, T), ("blocks", T, True), ("blocks", ONE, (T,)), ("blocks", ONE, ()), ("blocks", T, ()),
+    ("blocks", T, (T,)), ("blocks", T, (ONE,)), ("blocks", ("steps", 0), ()),
+    # Over narrower or wider than there are blocks.
+    ("blocks", ONE, (T, T)), ("blocks", ("steps", 3), (T, T)), ("blocks", T, (T, T, T)),
+    ("blocks", ("steps", 4), (T, T)), ("blocks", ("blocks", T, (T, T)), (ONE,) * 3),
+    # Too wide.
+    ("blocks", T, (("steps", 64), ONE)), ("blocks", T, (ONE, ("steps", 64))), ("blocks", ("steps", 64), (ONE,) * 63 + (T,)),
+    ("blocks", ("steps", 33), (T,) * 33), ("blocks", ("steps", 65), (ONE,) * 65), ("blocks", T, (ONE,) * 2000),
+    # Too deep.
+    deep_over(71), deep_over(72), deep_over(160), ("blocks", deep_over(70), (ONE, ONE)),
+    ("blocks", T, (ONE, deep_over(70))), ("blocks", T, (deep_over(70), ONE)), deep_blocks(71), deep_blocks(160),
+    # Too many knots.
+    KNOTS_1001, heavy_behind(46), heavy_behind(64), ("blocks", T, (KNOTS_1000, ONE)),
+    ("blocks", T, (ONE, KNOTS_990)), ("blocks", T, (ONE, KNOTS_1001)),
+)
+
+
+def paper_places(paper, path=()):
+    """The paths to all papers within a paper, itself too."""
+    yield path
+    if paper[0] == "blocks":
+        yield from paper_places(paper[1], path + (1,))
+        for at, block in enumerate(paper[2]):
+            yield from paper_places(block, path + (2, at))
+
+
+def changed_at(tuples, path, new):
+    """The same tuples within tuples, but for what stands at the end of the path."""
+    if not path:
+        return new
+    at = path[0]
+    return tuples[:at] + (changed_at(tuples[at], path[1:], new),) + tuples[at + 1:]

@@ -4,26 +4,35 @@ import copy
 import itertools
 import unittest
 
+from sumnets.building import built, built_holds
 from sumnets.errors import NetError
 from sumnets.joinings import is_thing, joined, look_at_joining
 from sumnets.levels import depth_of, least_depth, levels_hold, levels_of, longest_way, way_holds
+from sumnets.merged import merged
 from sumnets.nets import look_at_net
+from sumnets.outs import lengths_of, most_out, outs_of
+from sumnets.papers import depths_in, knots_in, width_of
 from sumnets.rows import beginnings_told, row_joined, window_told
 from sumnets.spans import spans_hold, spans_of, tells, tells_beginnings
 from sumnets.tables import clash_holds, clash_of
 from sumnets.telling import all_told, told
-from tests.samples import BIG, MINUS, deep_dict, deep_list, deep_tuple, error_of
+from sumnets.trimmed import needed, trimmed
+from tests.samples import BIG, MINUS, ONE, T, deep_dict, deep_list, deep_tuple, error_of
 
-CHECKERS = {clash_holds: 2, spans_hold: 2, tells: 2, tells_beginnings: 1, levels_hold: 2, way_holds: 2}
+CHECKERS = {
+    clash_holds: 2, spans_hold: 2, tells: 2, tells_beginnings: 1, levels_hold: 2, way_holds: 2, built_holds: 2,
+}
 REFUSING = {
     look_at_joining: 1, is_thing: 2, joined: 3, clash_of: 1, row_joined: 2, beginnings_told: 2, window_told: 3,
     look_at_net: 1, spans_of: 1, told: 3, all_told: 3, levels_of: 1, depth_of: 1, longest_way: 1, least_depth: 1,
+    outs_of: 1, most_out: 1, lengths_of: 1, needed: 1, trimmed: 1, merged: 1, width_of: 1, knots_in: 1, depths_in: 1,
+    built: 1,
 }
 # Right things of each kind, and wrong ones that could be changed by whoever gets them.
 HANDED = [
     ("plus",), ("table", MINUS), (1, 2), (0, 1), (2, ((0, 1),), (0, 2)), 1, BIG, True, None, "rows", [], ["plus"],
     {"rows": [1]}, ([1], {2: [3]}), [2, [[0, 1]], [0, 2]], (2, [(0, 1)], [0, 2]), deep_list(160), deep_tuple(160),
-    deep_dict(160), (),
+    deep_dict(160), (), T, ("blocks", T, (T, ONE)), ["steps", 2], ("blocks", T, [T, T]),
 ]
 
 
