@@ -1,6 +1,6 @@
 """Spans: the window of things that each knot is made of, and which windows a net tells."""
 
-from sumnets.errors import NotBeside
+from sumnets.errors import NoEnds, NotBeside
 from sumnets.nets import is_net, look_at_net
 from sumnets.rows import are_windows, beginnings
 
@@ -54,3 +54,10 @@ def tells(net, windows):
 def tells_beginnings(net):
     """Whether net is a net that tells the beginnings of its width."""
     return is_net(net) and tells(net, beginnings(net[0]))
+
+
+def look_at_beginnings(net):
+    """NoNet, NotBeside, NoEnds, where net doesn't tell the beginnings of its width."""
+    all_spans(net)
+    if not tells_beginnings(net):
+        raise NoEnds("its ends don't tell its beginnings")

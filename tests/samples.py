@@ -240,10 +240,10 @@ PAPERS = [paper for paper, net in BUILT] + [
 
 # What is no paper, and so makes none of what it stands in.
 WRONG_PARTS = NO_TUPLES + DEEP + (
-    (), ("steps",), ("steps", 2, 2), ("step", 2), ("Steps", 2), ("blocks", 2), (2, "steps"), ["steps", 2], ("steps", [2]),
-    ("steps", 0), ("steps", -1), ("steps", 65), ("steps", BIG), ("steps", -BIG), ("steps", True), ("steps", False),
-    ("steps", None), ("steps", "2"), ("steps", (2,)), ("steps", {}), (("steps",), 2), (None, 2), (True, 2), "steps",
-    {"steps": 2}, (("steps", 2),), ("steps", deep_tuple(100)), (deep_list(100), 2),
+    (), ("steps",), ("steps", 2, 2), ("step", 2), ("Steps", 2), ("blocks", 2), (2, "steps"), ["steps", 2],
+    ("steps", [2]), ("steps", 0), ("steps", -1), ("steps", 65), ("steps", BIG), ("steps", -BIG), ("steps", True),
+    ("steps", False), ("steps", None), ("steps", "2"), ("steps", (2,)), ("steps", {}), (("steps",), 2), (None, 2),
+    (True, 2), "steps", {"steps": 2}, (("steps", 2),), ("steps", deep_tuple(100)), (deep_list(100), 2),
 )
 WRONG_PAPERS = WRONG_PARTS + (
     ("blocks",), ("blocks", T), ("blocks", T, (T, T), ()), ["blocks", T, (T, T)], ("block", T, (T, T)),
@@ -256,7 +256,8 @@ WRONG_PAPERS = WRONG_PARTS + (
     ("blocks", ONE, (T, T)), ("blocks", ("steps", 3), (T, T)), ("blocks", T, (T, T, T)),
     ("blocks", ("steps", 4), (T, T)), ("blocks", ("blocks", T, (T, T)), (ONE,) * 3),
     # Too wide.
-    ("blocks", T, (("steps", 64), ONE)), ("blocks", T, (ONE, ("steps", 64))), ("blocks", ("steps", 64), (ONE,) * 63 + (T,)),
+    ("blocks", T, (("steps", 64), ONE)), ("blocks", T, (ONE, ("steps", 64))),
+    ("blocks", ("steps", 64), (ONE,) * 63 + (T,)),
     ("blocks", ("steps", 33), (T,) * 33), ("blocks", ("steps", 65), (ONE,) * 65), ("blocks", T, (ONE,) * 2000),
     # Too deep.
     deep_over(71), deep_over(72), deep_over(160), ("blocks", deep_over(70), (ONE, ONE)),
@@ -282,3 +283,23 @@ def changed_at(tuples, path, new):
         return new
     at = path[0]
     return tuples[:at] + (changed_at(tuples[at], path[1:], new),) + tuples[at + 1:]
+
+
+def tree_parts(tree):
+    """How many trees are in a tree of cases, itself too."""
+    return 1 + sum(tree_parts(branch) for branch in tree[2]) if tree[0] == "cut" else 1
+
+
+def tree_places(tree, path=()):
+    """The paths to all trees within a tree of cases, itself too."""
+    yield path
+    if tree[0] == "cut":
+        for at, branch in enumerate(tree[2]):
+            yield from tree_places(branch, path + (2, at))
+
+
+def at_path(tuples, path):
+    """What stands at the end of the path within tuples."""
+    for at in path:
+        tuples = tuples[at]
+    return tuples
