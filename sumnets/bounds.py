@@ -1,8 +1,9 @@
 """Papers that show how few knots and how little depth a net can have that tells all beginnings."""
 
+from sumnets.nets import are_knots_of
 from sumnets.spans import look_at_beginnings, tells_beginnings
 from sumnets.trimmed import needed
-from sumnets.whole import are_between, is_tuple_of
+from sumnets.whole import is_tuple_of
 
 
 def spine_of(net):
@@ -23,11 +24,6 @@ def sum_paper(net):
     tree = needed((width, knots, ends[-1:]))
     beside = [end for end in ends if end >= width and end not in tree]
     return ("sum", tuple(tree), tuple(spine_of(net)), tuple(beside))
-
-
-def are_knots_of(net, numbers):
-    """Whether numbers is a tuple of numbers of knots of net."""
-    return are_between(numbers, net[0], net[0] + len(net[1]) - 1)
 
 
 def are_unlike_knots(net, numbers):

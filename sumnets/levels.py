@@ -1,8 +1,8 @@
 """How deep knots and nets are, and how deep a net must be at least."""
 
 from sumnets.errors import NoSize
-from sumnets.nets import is_net, look_at_net
-from sumnets.whole import are_between, are_whole, is_between
+from sumnets.nets import are_knots_of, is_net, look_at_net
+from sumnets.whole import are_whole, is_between
 
 MOST_SIZE = 10 ** 9
 
@@ -61,9 +61,7 @@ def levels_hold(net, levels):
 
 def way_holds(net, way):
     """Whether net is a net, and way a tuple of numbers of knots, each one of the two of the next one."""
-    if not is_net(net):
+    if not is_net(net) or not are_knots_of(net, way):
         return False
     width, knots, ends = net
-    if not are_between(way, width, width + len(knots) - 1):
-        return False
     return all(one in knots[other - width] for one, other in zip(way, way[1:]))

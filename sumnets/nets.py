@@ -33,6 +33,11 @@ def is_net(net):
     return are_ends(ends, width + len(knots))
 
 
+def are_knots_of(net, numbers):
+    """Whether numbers is a tuple of numbers of knots of net, perhaps of none."""
+    return are_between(numbers, net[0], net[0] + len(net[1]) - 1)
+
+
 def look_at_net(net):
     """None; NoNet where net isn't of the form."""
     if not is_net(net):

@@ -6,13 +6,18 @@ from sumnets.spans import all_spans
 from sumnets.whole import is_tuple_of
 
 
+def look_at_full_row(net, joining, things):
+    """NoRow, NoThing, where things is no tuple of as many things of joining as net is wide."""
+    if not is_tuple_of(things, net[0]):
+        raise NoRow("it is no tuple of as many things as the net is wide")
+    look_at_things(joining, things)
+
+
 def look_at_all(net, joining, things):
     """NoNet, NotBeside, NoJoining, Bracketed, NoRow, NoThing, where net can't tell of things by joining."""
     all_spans(net)
     look_at_joining(joining)
-    if not is_tuple_of(things, net[0]):
-        raise NoRow("it is no tuple of as many things as the net is wide")
-    look_at_things(joining, things)
+    look_at_full_row(net, joining, things)
 
 
 def values_of(net, joining, things):

@@ -25,3 +25,8 @@ def are_whole(things):
 def are_between(things, low, high):
     """Whether things is a tuple of numbers from low to high, perhaps of none."""
     return isinstance(things, tuple) and all(is_between(thing, low, high) for thing in things)
+
+
+def are_rising(numbers):
+    """Whether each of the numbers is greater than the one before it."""
+    return all(one < other for one, other in zip(numbers, numbers[1:]))

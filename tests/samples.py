@@ -80,6 +80,26 @@ JOININGS = [
      [((0, (1,)), (1, (2, 3))), ((1, (2,)), (0, (4, 5))), ((0, (3,)), (0, (6, 7)))]),
 ]
 
+# Joinings with a table that minds brackets, each with where the first such table first clashes and with a thing of it.
+BRACKETED = [
+    (("table", MINUS), (0, 0, 1), 0),
+    (("turned", ("table", NOT_BOTH)), (0, 0, 1), 1),
+    (("both", ("rows",), ("table", MINUS)), (0, 0, 1), ((1,), 2)),
+    (("both", ("table", ((0, 1), (0, 0))), ("table", MINUS)), (1, 0, 1), (1, 2)),
+    (("marked", ("turned", ("table", ((0, 1), (0, 0))))), (1, 0, 1), (1, 0)),
+    (("turned", ("both", ("marked", ("table", ((0, 1), (0, 0)))), ("plus",))), (1, 0, 1), ((0, 1), 7)),
+]
+
+
+def joining_depth(joining):
+    """How deep a joining is."""
+    return 1 + max((joining_depth(inner) for inner in joining[1:] if joining[0] != "table"), default=0)
+
+
+def random_row(dice, things, width):
+    """A row of so many of these things."""
+    return tuple(dice.choice(things) for place in range(width))
+
 
 def error_of(call, *arguments):
     """The error that a call raises, or None."""

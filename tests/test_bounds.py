@@ -7,44 +7,14 @@ from sumnets.bounds import sum_holds, sum_paper
 from sumnets.building import built
 from sumnets.errors import NetError, NoEnds, NoNet, NotBeside
 from sumnets.levels import depth_of, least_depth
-from sumnets.rules import by_blocks, by_halves, by_one, by_pairs, by_steps, by_twos, spared
 from sumnets.spans import spans_of, tells_beginnings
+from tests.nets_made import NO_ENDS, more_knots, random_beginnings, rule_nets
 from tests.samples import (
     BIG, DEEP, NETS_NOT_BESIDE, NO_NUMBERS, NO_TUPLES, WRONG_NETS, error_of, one_by_one_net, random_paper, stepped_net)
 
 # Of this net's knots 4, 5 and 7 make up the last end; 6 is another end, 8 and 9 are needless.
 NET = (4, ((0, 1), (2, 3), (4, 2), (4, 5), (1, 2), (8, 3)), (0, 4, 6, 7))
 PAPER = ("sum", (4, 5, 7), (7, 4), (6,))
-NO_ENDS = [
-    (2, ((0, 1),), (2,)), (2, ((0, 1),), (2, 0)), (2, ((0, 1),), (0, 2, 2)), (2, (), (0, 1)), (2, (), (0,)),
-    (1, (), (0, 0)), (3, ((0, 1), (1, 2)), (0, 3, 4)), (3, ((0, 1), (3, 2)), (0, 4, 3)), (64, (), tuple(range(64))),
-]
-
-
-def more_knots(dice, net, count):
-    """The same net with needless knots put between, and at times an end by one of them."""
-    width, knots, ends = net
-    spans = [(place, place) for place in range(width)]
-    anew = list(range(width))
-    new = []
-    for knot in list(knots) + [None]:
-        for step in range(dice.randrange(count)):
-            pairs = [(left, right) for left in range(len(spans)) for right in range(len(spans))
-                     if spans[left][1] + 1 == spans[right][0]]
-            if pairs:
-                left, right = dice.choice(pairs)
-                new.append((left, right))
-                spans.append((spans[left][0], spans[right][1]))
-        if knot is not None:
-            left, right = anew[knot[0]], anew[knot[1]]
-            anew.append(len(spans))
-            new.append((left, right))
-            spans.append((spans[left][0], spans[right][1]))
-    told = []
-    for end in ends:
-        alike = [number for number in range(len(spans)) if spans[number] == spans[anew[end]]]
-        told.append(dice.choice(alike))
-    return (width, tuple(new), tuple(told))
 
 
 def slow_holds(net, paper):
@@ -77,12 +47,6 @@ def changed_numbers(numbers, most):
         yield numbers + (other,)
         yield (other,) + numbers
     yield ()
-
-
-def rule_nets(width):
-    papers = [rule(width) for rule in (by_steps, by_one, by_halves, by_pairs, by_twos)]
-    papers += [spared(width, spare) for spare in range(7)] + [by_blocks(width, size) for size in (1, 2, 3, 5, 8, 64)]
-    return [built(paper) for paper in papers]
 
 
 class SumPaper(unittest.TestCase):
@@ -193,7 +157,7 @@ class SumHolds(unittest.TestCase):
     def test_changed_papers(self):
         dice = random.Random(72)
         nets = [NET] + [net for width in (1, 2, 3, 5, 6) for net in rule_nets(width)]
-        nets += [more_knots(dice, built(random_paper(dice, dice.randrange(1, 7), 3)), 3) for trial in range(30)]
+        nets += [random_beginnings(dice, dice.randrange(1, 7)) for trial in range(30)]
         seen = set()
         for net in nets:
             paper = sum_paper(net)

@@ -4,35 +4,54 @@ import copy
 import itertools
 import unittest
 
+from sumnets.behind import behind
 from sumnets.bounds import sum_holds, sum_paper
 from sumnets.building import built, built_holds
 from sumnets.cases import cases_holds
 from sumnets.errors import NetError
 from sumnets.fewest import fewest
 from sumnets.joinings import is_thing, joined, look_at_joining
+from sumnets.kept import Kept
 from sumnets.levels import depth_of, least_depth, levels_hold, levels_of, longest_way, way_holds
 from sumnets.merged import merged
 from sumnets.nets import look_at_net
 from sumnets.outs import lengths_of, most_out, outs_of
 from sumnets.papers import depths_in, knots_in, width_of
+from sumnets.rounds import least_rounds, rounds_hold, rounds_of, rounds_told
 from sumnets.rows import beginnings_told, row_joined, window_told
 from sumnets.rules import by_blocks, by_halves, by_one, by_pairs, by_steps, by_twos, spared
 from sumnets.spans import spans_hold, spans_of, tells, tells_beginnings
 from sumnets.tables import clash_holds, clash_of
 from sumnets.telling import all_told, told
 from sumnets.trimmed import needed, trimmed
+from sumnets.turning import turned_net
+from sumnets.windows import moving, windows_net
 from tests.samples import BIG, MINUS, ONE, T, deep_dict, deep_list, deep_tuple, error_of
+
+
+def kept_told(net, joining, things):
+    """What a net tells that is kept."""
+    kept = Kept(net, joining, things)
+    return kept.told(), kept.knots_told(), kept.joins()
+
+
+def kept_changed(place, thing):
+    """What is joined anew in a net that is kept, and what it tells then."""
+    kept = Kept((2, ((0, 1),), (0, 2)), ("plus",), (1, 2))
+    return kept.change(place, thing), kept.told()
+
 
 CHECKERS = {
     clash_holds: 2, spans_hold: 2, tells: 2, tells_beginnings: 1, levels_hold: 2, way_holds: 2, built_holds: 2,
-    sum_holds: 2, cases_holds: 5,
+    sum_holds: 2, cases_holds: 5, rounds_hold: 3,
 }
 REFUSING = {
     look_at_joining: 1, is_thing: 2, joined: 3, clash_of: 1, row_joined: 2, beginnings_told: 2, window_told: 3,
     look_at_net: 1, spans_of: 1, told: 3, all_told: 3, levels_of: 1, depth_of: 1, longest_way: 1, least_depth: 1,
     outs_of: 1, most_out: 1, lengths_of: 1, needed: 1, trimmed: 1, merged: 1, width_of: 1, knots_in: 1, depths_in: 1,
     built: 1, by_steps: 1, by_one: 1, by_halves: 1, by_pairs: 1, by_twos: 1, spared: 2, by_blocks: 2, sum_paper: 1,
-    fewest: 3,
+    fewest: 3, turned_net: 1, behind: 2, windows_net: 2, moving: 2, kept_told: 3, kept_changed: 2, rounds_of: 2,
+    least_rounds: 2, rounds_told: 4,
 }
 # Right things of each kind, and wrong ones that could be changed by whoever gets them.
 HANDED = [
@@ -40,11 +59,13 @@ HANDED = [
     {"rows": [1]}, ([1], {2: [3]}), [2, [[0, 1]], [0, 2]], (2, [(0, 1)], [0, 2]), deep_list(160), deep_tuple(160),
     deep_dict(160), (), T, ("blocks", T, (T, ONE)), ["steps", 2], ("blocks", T, [T, T]), 2, ((0, 0), (0, 1)),
     [(0, 1)], ("many",), ("cut", (0, 1), (("many",),)), ("cut", [0, 1], [["many"]]), ("sum", (2,), (2,), ()),
-    ("sum", [2], [2], []),
+    ("sum", [2], [2], []), ((2,),), ([2],),
 ]
 # Right ones for what takes too many arguments to try all: then two at a time are others.
-RIGHT = {cases_holds: (2, ((0, 1),), 1, 1, ("cut", (0, 1), (("many",),)))}
-
+RIGHT = {
+    cases_holds: (2, ((0, 1),), 1, 1, ("cut", (0, 1), (("many",),))),
+    rounds_told: ((2, ((0, 1),), (0, 2)), ("plus",), (1, 2), ((2,),)),
+}
 
 
 def outcome(call, arguments):

@@ -2,7 +2,7 @@
 
 import unittest
 
-from sumnets.whole import are_between, are_whole, is_between, is_tuple_of, is_whole
+from sumnets.whole import are_between, are_rising, are_whole, is_between, is_tuple_of, is_whole
 from tests.samples import BIG, DEEP, NO_NUMBERS, NO_TUPLES
 
 
@@ -41,6 +41,12 @@ class Whole(unittest.TestCase):
             self.assertIs(are_between(good, 0, 2), True)
         for wrong in NO_TUPLES + ((True,), (1, 3), (-1, 1), (1, "2"), (False, 1)) + DEEP:
             self.assertIs(are_between(wrong, 0, 2), False)
+
+    def test_rising(self):
+        for good in ((), (5,), (0, 1), (-3, 0, 7, BIG)):
+            self.assertIs(are_rising(good), True)
+        for wrong in ((0, 0), (1, 0), (0, 1, 1), (0, 2, 1), (BIG, 0), (0, 0, 1)):
+            self.assertIs(are_rising(wrong), False)
 
 
 if __name__ == "__main__":
