@@ -159,6 +159,23 @@ def random_right_net(dice, width, count):
     return (width, tuple(knots), ends), tuple(spans[width:]), tuple(spans[end] for end in ends)
 
 
+def all_rounds(net, hands):
+    """All rows of rounds of a small net that hold."""
+    width, knots, ends = net
+
+    def go_on(done):
+        if len(done) == len(knots):
+            yield ()
+        ready = [number for number, knot in enumerate(knots, start=width)
+                 if number not in done and all(part < width or part in done for part in knot)]
+        for count in range(1, hands + 1):
+            for numbers in itertools.combinations(ready, count):
+                for rest in go_on(done | set(numbers)):
+                    yield (numbers,) + rest
+
+    return list(go_on(frozenset()))
+
+
 WRONG_NETS = NO_TUPLES + DEEP + (
     (), (1,), (1, ()), (1, (), (0,), ()), [1, (), (0,)], ((1, (), (0,)),), "net", {1: ()},
     # The width.

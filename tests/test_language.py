@@ -150,6 +150,17 @@ class Language(unittest.TestCase):
                 if isinstance(node, ast.BinOp) and isinstance(node.op, ast.Pow):
                     self.assertIn(getattr(node.right, "value", None), range(65))
 
+    def test_no_name_is_a_method_here_and_an_attribute_there(self):
+        methods, attributes = set(), set()
+        for path, tree in self.trees():
+            for node in ast.walk(tree):
+                if isinstance(node, ast.ClassDef):
+                    methods |= {part.name for part in node.body if isinstance(part, ast.FunctionDef)}
+                elif isinstance(node, ast.Attribute) and isinstance(node.ctx, ast.Store):
+                    attributes.add(node.attr)
+        self.assertEqual(methods & attributes, set())
+        self.assertEqual(attributes & set(dir(str) + dir(list) + dir(dict) + dir(tuple) + dir(int)), set())
+
     def test_unused_imports(self):
         for path, tree in self.trees():
             used = {node.id for node in ast.walk(tree) if isinstance(node, ast.Name)}

@@ -11,7 +11,7 @@ from sumnets.rows import beginnings_told, window_told
 from sumnets.telling import told
 from tests.nets_made import random_beginnings, rule_nets
 from tests.samples import (
-    BIG, BRACKETED, DEEP, JOININGS, MINUS, NETS_NOT_BESIDE, NO_NUMBERS, NO_TUPLES, WRONG_NETS, deep_turned,
+    BIG, BRACKETED, DEEP, JOININGS, MINUS, NETS_NOT_BESIDE, NO_NUMBERS, NO_TUPLES, WRONG_NETS, all_rounds, deep_turned,
     doubling_chain, error_of, one_by_one_net, random_net, random_right_net, random_row, stepped_net)
 
 NET = (4, ((0, 1), (2, 3), (4, 2), (4, 5)), (0, 4, 6, 7))
@@ -37,23 +37,6 @@ def slow_holds(net, hands, rounds):
             if part >= width and not turn[part] < turn[number]:
                 return False
     return True
-
-
-def all_rounds(net, hands):
-    """All rows of rounds of a small net that hold."""
-    width, knots, ends = net
-
-    def go_on(done):
-        if len(done) == len(knots):
-            yield ()
-        ready = [number for number, knot in enumerate(knots, start=width)
-                 if number not in done and all(part < width or part in done for part in knot)]
-        for count in range(1, hands + 1):
-            for numbers in itertools.combinations(ready, count):
-                for rest in go_on(done | set(numbers)):
-                    yield (numbers,) + rest
-
-    return list(go_on(frozenset()))
 
 
 def changed_rounds(net, rounds):
