@@ -3,7 +3,7 @@
 import unittest
 
 from sumnets.errors import NetError, NoNet
-from sumnets.nets import look_at_net
+from sumnets.nets import are_knots_of, look_at_net
 from tests.samples import NETS_NOT_BESIDE, WRONG_NETS, doubling_chain, error_of, one_by_one_net, stepped_net
 
 
@@ -59,6 +59,18 @@ class LookAtNet(unittest.TestCase):
                 error = error_of(look_at_net, wrong)
                 self.assertIs(type(error), NoNet)
                 self.assertIsInstance(error, NetError)
+
+
+class KnotsOf(unittest.TestCase):
+    def test_numbers_of_knots(self):
+        net = (3, ((0, 1), (3, 2)), (4,))
+        for good in ((), (3,), (4,), (4, 3, 4)):
+            self.assertIs(are_knots_of(net, good), True)
+        for wrong in ((2,), (5,), (3, 0), (4, -1), (3, True), [3], "3", None, 3, {3: 4}, ((3,),)):
+            self.assertIs(are_knots_of(net, wrong), False)
+        self.assertIs(are_knots_of((1, (), (0,)), ()), True)
+        self.assertIs(are_knots_of((1, (), (0,)), (1,)), False)
+        self.assertIs(are_knots_of((1, ((0, 0),), (0,)), (True,)), False)
 
 
 if __name__ == "__main__":
